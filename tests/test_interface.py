@@ -1,0 +1,75 @@
+"""The names, parameters and places that the document's interface lists."""
+
+import inspect
+import unittest
+
+from rowsmeet import books, boxes, errors
+
+PROPERTIES = {
+    boxes.Box: ["who", "what", "days", "amounts"],
+    books.Row: ["box", "price", "rank"],
+    books.Book: ["rows"],
+}
+
+OPERATORS = {
+    boxes.Box: ["__contains__", "__and__", "__eq__"],
+    books.Row: ["__eq__"],
+    books.Book: ["__len__", "__getitem__", "__contains__", "__iter__", "__add__", "__eq__"],
+}
+
+SIGNATURES = {
+    boxes.is_name: "(thing)",
+    boxes.is_sale: "(thing)",
+    boxes.is_stretch: "(thing)",
+    boxes.meeting: "(boxes)",
+    boxes.Box: "(who=None, what=None, days=(0, None), amounts=(0, None))",
+    boxes.Box.is_within: "(self, other)",
+    boxes.Box.a_sale: "(self)",
+    books.Row: "(box, price, rank=0)",
+    books.Row.ended: "(self, day)",
+    books.Book: "(rows=())",
+    books.Book.with_row: "(self, row)",
+    books.Book.without: "(self, at)",
+    books.Book.with_ended: "(self, at, day)",
+    books.Book.some: "(self, lot)",
+    books.Book.entered: "(self, order)",
+}
+
+PLACES = {
+    errors: ["PriceError", "BadBox", "BadRow", "BadRows", "TooMany", "NoRow", "BadRule", "BadBook", "BadSale",
+             "BadSales", "BadLot", "NotWhole", "NoEntry", "BadLog", "BadDay", "BadReceipts", "Shaky", "NothingDone",
+             "BadText"],
+    boxes: ["is_name", "is_sale", "is_stretch", "Box", "meeting"],
+    books: ["Row", "Book"],
+}
+
+
+class Interface(unittest.TestCase):
+    def test_parameters(self):
+        for thing, signature in SIGNATURES.items():
+            self.assertEqual(str(inspect.signature(thing)), signature, thing)
+
+    def test_methods_stand_in_the_class_itself(self):
+        for thing in SIGNATURES:
+            owner, dot, name = thing.__qualname__.partition(".")
+            if dot:
+                module = inspect.getmodule(thing)
+                self.assertIn(name, vars(vars(module)[owner]))
+        for owner, names in OPERATORS.items():
+            for name in names:
+                self.assertTrue(inspect.isfunction(vars(owner)[name]), (owner, name))
+
+    def test_properties_have_no_setter(self):
+        for owner, names in PROPERTIES.items():
+            for name in names:
+                self.assertIsInstance(vars(owner)[name], property)
+                self.assertIsNone(vars(owner)[name].fset)
+
+    def test_each_is_defined_in_its_file(self):
+        for module, names in PLACES.items():
+            for name in names:
+                self.assertEqual(vars(module)[name].__module__, module.__name__, name)
+
+
+if __name__ == "__main__":
+    unittest.main()
