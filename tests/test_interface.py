@@ -3,18 +3,20 @@
 import inspect
 import unittest
 
-from rowsmeet import books, boxes, errors
+from rowsmeet import asking, books, boxes, errors, firmness, orders, rules
 
 PROPERTIES = {
     boxes.Box: ["who", "what", "days", "amounts"],
     books.Row: ["box", "price", "rank"],
     books.Book: ["rows"],
+    rules.Rule: ["words", "live"],
 }
 
 OPERATORS = {
     boxes.Box: ["__contains__", "__and__", "__eq__"],
     books.Row: ["__eq__"],
     books.Book: ["__len__", "__getitem__", "__contains__", "__iter__", "__add__", "__eq__"],
+    rules.Rule: ["__eq__"],
 }
 
 SIGNATURES = {
@@ -33,6 +35,30 @@ SIGNATURES = {
     books.Book.with_ended: "(self, at, day)",
     books.Book.some: "(self, lot)",
     books.Book.entered: "(self, order)",
+    rules.Rule: "(words=())",
+    rules.ahead: "(word, book, one, other)",
+    rules.parts: "(rule, book, one, other)",
+    rules.beats: "(rule, book, one, other)",
+    asking.rows_at: "(book, sale)",
+    asking.by_pairs: "(rule, book, sale)",
+    asking.by_rounds: "(rule, book, sale)",
+    asking.rounds: "(rule, book, sale)",
+    asking.told: "(rule, book, sale)",
+    asking.unbeaten: "(rule, book, sale)",
+    firmness.unparted: "(rule, book)",
+    firmness.rings: "(rule, book)",
+    firmness.is_firm: "(rule, book)",
+    firmness.shaky: "(rule, book)",
+    firmness.is_whole: "(rule, book)",
+    firmness.unwhole_sale: "(rule, book)",
+    firmness.least_taken: "(rule, book)",
+    orders.is_always_firm: "(rule)",
+    orders.shaky_book: "(rule)",
+    orders.choose_alike: "(rule)",
+    orders.unlike_choice: "(rule)",
+    orders.are_alike: "(one, other)",
+    orders.parting: "(one, other)",
+    orders.firm_orders: "(words)",
 }
 
 PLACES = {
@@ -41,6 +67,10 @@ PLACES = {
              "BadText"],
     boxes: ["is_name", "is_sale", "is_stretch", "Box", "meeting"],
     books: ["Row", "Book"],
+    rules: ["Rule", "ahead", "parts", "beats"],
+    asking: ["rows_at", "by_pairs", "by_rounds", "rounds", "told", "unbeaten"],
+    firmness: ["unparted", "rings", "is_firm", "shaky", "is_whole", "unwhole_sale", "least_taken"],
+    orders: ["is_always_firm", "shaky_book", "choose_alike", "unlike_choice", "are_alike", "parting", "firm_orders"],
 }
 
 

@@ -9,7 +9,7 @@ import unittest
 PACKAGE = pathlib.Path(__file__).resolve().parent.parent / "rowsmeet"
 
 # The modules of the interface, in its order, as far as they are written; further ones may stand between.
-MODULES = ["errors", "boxes", "books"]
+MODULES = ["errors", "boxes", "books", "rules", "asking", "firmness", "orders"]
 
 BANNED_WORDS = re.compile(
     r"\b(type|typing|typing_extensions|enum|Enum|IntEnum|StrEnum|Flag|IntFlag|Generic|Protocol|ABC|ABCMeta|namedtuple"
@@ -117,6 +117,14 @@ class Language(unittest.TestCase):
         for name, node in nodes((ast.Name, ast.Attribute, ast.arg)):
             word = node.id if isinstance(node, ast.Name) else node.attr if isinstance(node, ast.Attribute) else node.arg
             self.assertTrue(not word.startswith("_") or word == "__init__", (name, word))
+
+    def test_no_variable_has_the_name_of_a_class_or_an_import_of_its_file(self):
+        for name, text in texts().items():
+            parts = list(ast.walk(ast.parse(text)))
+            taken = {alias.name for node in parts if isinstance(node, ast.ImportFrom) for alias in node.names}
+            taken |= {node.name for node in parts if isinstance(node, ast.ClassDef)}
+            stored = {node.id for node in parts if isinstance(node, ast.Name) and isinstance(node.ctx, ast.Store)}
+            self.assertEqual(taken & (stored | {node.arg for node in parts if isinstance(node, ast.arg)}), set(), name)
 
     def test_is_stands_only_beside_none_and_truth(self):
         for name, node in nodes(ast.Compare):

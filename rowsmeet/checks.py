@@ -1,0 +1,17 @@
+"""What is asked of a book and of a sale that is passed."""
+
+from rowsmeet.books import Book
+from rowsmeet.boxes import is_sale
+from rowsmeet.errors import BadBook, BadSale
+
+
+def check_book(book):
+    """BadBook unless the value is a book."""
+    if not isinstance(book, Book):
+        raise BadBook("not a book")
+
+
+def check_sale(sale):
+    """BadSale unless the value is a sale."""
+    if not is_sale(sale):
+        raise BadSale("not a sale")
