@@ -15,3 +15,11 @@ def check_sale(sale):
     """BadSale unless the value is a sale."""
     if not is_sale(sale):
         raise BadSale("not a sale")
+
+
+def first_wrong(things, is_right):
+    """The index of the first item that is not as it must be, None if all are."""
+    for at, thing in enumerate(things):
+        if not is_right(thing):
+            return at
+    return None

@@ -186,3 +186,56 @@ def ring_cases(many, seed):
         rows = [Row(box, chance.choice([3, 5, 7]), chance.choice([0, 0, 0, 1])) for box in boxes]
         cases.append((rules[number % 4], Book(rows)))
     return cases
+
+
+class Entered(Plain):
+    """The same book, entered in another order: its rows keep their indexes."""
+
+    def __init__(self, plain, order):
+        self.words, self.rows, self.many = plain.words, plain.rows, plain.many
+        self.cells, self.within, self.order = plain.cells, plain.within, list(order)
+
+    def ahead(self, word, one, other):
+        if word in ("newest", "oldest"):
+            one, other = self.order.index(one), self.order.index(other)
+            return one > other if word == "newest" else one < other
+        return super().ahead(word, one, other)
+
+
+def leaving_orders(plain):
+    """The ascending list of the orders that leave each sale its row."""
+    found = []
+    for order in itertools.permutations(range(plain.many)):
+        entered = Entered(plain, order)
+        if all(entered.by_pairs_of(lot) == plain.by_pairs_of(lot) for lot in plain.cells):
+            found.append(order)
+    return found
+
+
+def entry_pairs_of(plain):
+    """The ascending list of the entry pairs, by their words."""
+    found = set()
+    for lot in plain.cells:
+        for one, other in itertools.permutations(lot, 2):
+            best, word = plain.by_pairs_of(lot), plain.parts(one, other)
+            if (word == "newest" and other == best) or (word == "oldest" and one == best):
+                found.add((one, other))
+    return sorted(found)
+
+
+def whole_cases(many, seed, most_rows=5):
+    """So many pairs (words, book) of whole books of none to so many rows, with some words of entry in most rules."""
+    chance, cases = random.Random(seed), []
+    corners = [Box(days=(0, day), amounts=(0, amount)) for day in range(3) for amount in range(3)]
+    while len(cases) < many:
+        words = chance.sample(WORDS, chance.choice([1, 2, 2, 3, 3, 4]))
+        words[chance.randrange(len(words))] = chance.choice(["newest", "oldest"])
+        if len(set(words)) < len(words):
+            continue
+        pool = [some_row(chance) for each in range(6)]
+        if len(cases) % 2:
+            pool = [Row(chance.choice(corners), chance.choice([3, 5]), chance.choice([0, 1])) for each in range(6)]
+        book = Book([chance.choice(pool) for each in range(len(cases) % (most_rows + 1))])
+        if Plain(words, book).is_whole():
+            cases.append((words, book))
+    return cases

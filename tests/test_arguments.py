@@ -1,37 +1,15 @@
 """Each function of rules, asking, firmness and orders with wrong arguments, and by the names of its parameters."""
 
-import itertools
 import unittest
 
 from rowsmeet import asking, firmness, orders, rules
 from rowsmeet.books import Book, Row
 from rowsmeet.boxes import Box
-from rowsmeet.errors import BadBook, BadRule, BadSale, NoRow, PriceError, TooMany
+from rowsmeet.errors import BadRule, BadSale, NoRow, TooMany
 from rowsmeet.rules import Rule
+from tests.argument_checks import A_BOOK, BOOK, INDEX, RULE, SALE, WORD, WORDS, ArgumentChecks
 from tests.test_interface import PLACES
-from tests.values import BIG, book, nested, other_kinds, plain_kinds, row
-
-BOOK = Book([row(7, days=(30, 36)), row(8, who="ann", days=(33, None)), row(10, days=(0, 90))])
-
-# For each kind of parameter: a good value, the error, and wrong values.
-RULE = (Rule(["narrowest", "newest"]), BadRule, other_kinds() + [
-    None, 0, "newest", ["newest"], ("newest",), Box(), BOOK, row(), nested(20), b""])
-A_BOOK = (BOOK, BadBook, other_kinds() + [
-    None, 0, "book", [row()], (row(),), list(BOOK), BOOK.rows, row(), Box(), Rule(), nested(20), b""])
-SALE = (("ann", "tea", 35, 2), BadSale, other_kinds() + [
-    None, 0, "anna", ["ann", "tea", 35, 2], ("ann", "tea", 35), ("ann", "tea", 35, 2, 1), ("Ann", "tea", 35, 2),
-    ("", "tea", 35, 2), ("abcdefghi", "tea", 35, 2), (None, "tea", 35, 2), ("ann", None, 35, 2), ("ann", "t-a", 35, 2),
-    ("ann", "tea", -1, 2), ("ann", "tea", 35, -1), ("ann", "tea", True, 2), ("ann", "tea", 35, False),
-    ("ann", "tea", None, 2), ("ann", "tea", (35, 36), 2), ("ann", "tea", "35", 2), ("ann", ["tea"], 35, 2),
-    Box("ann"), BOOK, row(), Rule(), nested(20), b""])
-INDEX = (1, NoRow, other_kinds() + [
-    None, 3, 4, BIG, -1, -3, "1", [1], (1,), {1: 1}, Box(), BOOK, row(), Rule(), nested(20), b""])
-WORD = ("newest", BadRule, other_kinds() + [
-    None, 0, 1, "Newest", "newest ", "new", "newest oldest", ["newest"], ("newest",), {"newest": 1}, b"newest", Box(),
-    BOOK, row(), Rule(["newest"]), nested(20)])
-WORDS = (["newest", "cheapest"], BadRule, plain_kinds() + [
-    None, 0, "newest", {"newest": 1}, ["newest", "newest"], ["new"], [None], (True,), [["newest"]], [[], {}], (None, None),
-    [nested(19)], ["newest", Rule(["newest"])], Box(), BOOK, row(), Rule(["newest"])])
+from tests.values import BIG, book, row
 
 FUNCTIONS = [
     (Rule, {"words": WORDS}),
@@ -61,53 +39,12 @@ FUNCTIONS = [
 ]
 
 
-class Arguments(unittest.TestCase):
-    def assert_raises(self, function, passed, kinds, name):
-        """The error is the one of this parameter, with its value if it has one."""
-        with self.assertRaises(PriceError, msg=(function, name)) as caught:
-            function(**passed)
-        self.assertEqual(caught.exception.__class__, kinds[name][1], (function, name))
-        if kinds[name][1] == NoRow:
-            self.assertEqual(caught.exception.at, passed[name])
-            self.assertEqual(caught.exception.at.__class__, passed[name].__class__)
-        with self.assertRaises(kinds[name][1]):
-            function(*passed.values())
+class Arguments(ArgumentChecks, unittest.TestCase):
+    functions = FUNCTIONS
 
     def test_each_function_is_here(self):
         listed = [(module.__name__, name) for module in [rules, asking, firmness, orders] for name in PLACES[module]]
         self.assertEqual(listed, [(function.__module__, function.__name__) for function, kinds in FUNCTIONS])
-
-    def test_each_parameter_wrong_by_itself(self):
-        for function, kinds in FUNCTIONS:
-            for name, (good, error, wrongs) in kinds.items():
-                for wrong in wrongs:
-                    passed = {each: kinds[each][0] for each in kinds}
-                    passed[name] = wrong
-                    self.assert_raises(function, passed, kinds, name)
-
-    def test_several_wrong_at_once(self):
-        for function, kinds in FUNCTIONS:
-            for many in range(2, len(kinds) + 1):
-                for names in itertools.combinations(kinds, many):
-                    for shift in range(8):
-                        passed = {each: kinds[each][0] for each in kinds}
-                        for at, name in enumerate(names):
-                            passed[name] = kinds[name][2][shift + at]
-                        self.assert_raises(function, passed, kinds, names[0])
-
-    def test_one_wrong_value_in_all_places(self):
-        for function, kinds in FUNCTIONS:
-            for wrong in [None, True, -1, {}, b"", nested(20)]:
-                passed = {each: wrong for each in kinds}
-                self.assert_raises(function, passed, kinds, list(kinds)[0])
-
-    def test_by_position_by_name_and_in_any_order_of_names(self):
-        for function, kinds in FUNCTIONS:
-            passed = {each: kinds[each][0] for each in kinds}
-            result = function(*passed.values())
-            self.assertEqual(function(**passed), result, function)
-            self.assertEqual(function(**dict(list(passed.items())[::-1])), result, function)
-            self.assertEqual(function(list(passed.values())[0], **dict(list(passed.items())[1:])), result, function)
 
     def test_an_index_of_a_row_that_is_not_there(self):
         for many in range(7):

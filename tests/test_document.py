@@ -1,4 +1,4 @@
-"""The examples of the document, as they are printed there, but for lines of modules that are not written yet."""
+"""The examples of the document, as they are printed there."""
 
 import doctest
 import unittest
@@ -19,11 +19,14 @@ FIRST = '''
 '''
 
 SECOND = '''
+>>> from rowsmeet.entry import count_entries, entry_pairs
 >>> from rowsmeet.orders import is_always_firm, parting
 >>> (is_always_firm(rule), is_always_firm(Rule(["dearest", "newest", "narrowest"])))
 (False, True)
 >>> parting(Rule(["cheapest", "dearest"]), Rule(["cheapest"])) is None
 True
+>>> (entry_pairs(Rule(["newest"]), book), count_entries(Rule(["newest"]), book))
+([(0, 2), (1, 2)], 2)
 '''
 
 
@@ -32,7 +35,7 @@ class Examples(unittest.TestCase):
         # The second example goes on with the names of the first one.
         examples = doctest.DocTestParser().get_doctest(FIRST + SECOND, {}, "DOC.md", None, 0)
         result = doctest.DocTestRunner().run(examples)
-        self.assertEqual((result.failed, result.attempted), (0, 13))
+        self.assertEqual((result.failed, result.attempted), (0, 15))
 
 
 if __name__ == "__main__":

@@ -3,7 +3,7 @@
 import inspect
 import unittest
 
-from rowsmeet import asking, books, boxes, errors, firmness, orders, rules
+from rowsmeet import asking, books, boxes, entry, errors, firmness, forms, logs, matter, orders, rules
 
 PROPERTIES = {
     boxes.Box: ["who", "what", "days", "amounts"],
@@ -17,6 +17,7 @@ OPERATORS = {
     books.Row: ["__eq__"],
     books.Book: ["__len__", "__getitem__", "__contains__", "__iter__", "__add__", "__eq__"],
     rules.Rule: ["__eq__"],
+    logs.Log: ["__len__", "__eq__"],
 }
 
 SIGNATURES = {
@@ -59,6 +60,26 @@ SIGNATURES = {
     orders.are_alike: "(one, other)",
     orders.parting: "(one, other)",
     orders.firm_orders: "(words)",
+    forms.form_of: "(rule, book)",
+    forms.days_told: "(rule, book, who, what)",
+    forms.tell_alike: "(rule, one, other)",
+    forms.changes: "(rule, one, other)",
+    forms.parting_sale: "(rule, one, other)",
+    matter.wins_at: "(rule, book, at)",
+    matter.left_at: "(rule, book, at)",
+    matter.dead_rows: "(rule, book)",
+    matter.least_lots: "(rule, book)",
+    entry.entry_pairs: "(rule, book)",
+    entry.leaves: "(rule, book, order)",
+    entry.entries: "(rule, book)",
+    entry.count_entries: "(rule, book)",
+    entry.entry_at: "(rule, book, number)",
+    logs.Log: "(entries=())",
+    logs.Log.with_entry: "(self, known, deed)",
+    logs.known: "(log, day)",
+    logs.told_on: "(rule, log, sale, day)",
+    logs.turns: "(rule, log, sale)",
+    logs.refunds: "(rule, log, sold)",
 }
 
 PLACES = {
@@ -71,6 +92,10 @@ PLACES = {
     asking: ["rows_at", "by_pairs", "by_rounds", "rounds", "told", "unbeaten"],
     firmness: ["unparted", "rings", "is_firm", "shaky", "is_whole", "unwhole_sale", "least_taken"],
     orders: ["is_always_firm", "shaky_book", "choose_alike", "unlike_choice", "are_alike", "parting", "firm_orders"],
+    forms: ["form_of", "days_told", "tell_alike", "changes", "parting_sale"],
+    matter: ["wins_at", "left_at", "dead_rows", "least_lots"],
+    entry: ["entry_pairs", "leaves", "entries", "count_entries", "entry_at"],
+    logs: ["Log", "known", "told_on", "turns", "refunds"],
 }
 
 

@@ -9,7 +9,7 @@ import unittest
 PACKAGE = pathlib.Path(__file__).resolve().parent.parent / "rowsmeet"
 
 # The modules of the interface, in its order, as far as they are written; further ones may stand between.
-MODULES = ["errors", "boxes", "books", "rules", "asking", "firmness", "orders"]
+MODULES = ["errors", "boxes", "books", "rules", "asking", "firmness", "orders", "forms", "matter", "entry", "logs"]
 
 BANNED_WORDS = re.compile(
     r"\b(type|typing|typing_extensions|enum|Enum|IntEnum|StrEnum|Flag|IntFlag|Generic|Protocol|ABC|ABCMeta|namedtuple"
@@ -138,6 +138,13 @@ class Language(unittest.TestCase):
         for name, node in nodes(ast.Constant):
             self.assertNotIsInstance(node.value, (float, complex), (name, node.lineno))
             self.assertNotIn("%", str(node.value), (name, node.lineno))
+
+    def test_no_other_function_has_the_name_of_a_generator(self):
+        functions = [node for name, node in nodes(ast.FunctionDef)]
+        generators = [node.name for node in functions if any(isinstance(part, ast.Yield) for part in ast.walk(node))]
+        self.assertEqual(generators, ["entries"])
+        for name in generators:
+            self.assertEqual([node.name for node in functions].count(name), 1)
 
     def test_no_name_is_both_a_method_and_an_attribute(self):
         methods = set()

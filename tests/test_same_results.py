@@ -7,10 +7,16 @@ import sys
 import unittest
 
 from rowsmeet.asking import rounds, told, unbeaten
-from rowsmeet.firmness import least_taken, shaky, unwhole_sale
+from rowsmeet.books import Book
+from rowsmeet.entry import entries, entry_pairs
+from rowsmeet.firmness import is_whole, least_taken, shaky, unwhole_sale
+from rowsmeet.forms import changes, form_of, parting_sale
+from rowsmeet.logs import Log, refunds, turns
+from rowsmeet.matter import dead_rows, least_lots, left_at, wins_at
 from rowsmeet.orders import firm_orders, parting, shaky_book, unlike_choice
 from rowsmeet.rules import Rule
 from tests.plain import WORDS, end_sales, lists_of_words, some_cases
+from tests.plain_logs import some_logs
 
 TOP = pathlib.Path(__file__).resolve().parent.parent
 
@@ -31,6 +37,15 @@ def all_results():
         results += [shaky(rule, book), unwhole_sale(rule, book), least_taken(rule, book)]
         for sale in end_sales([row.box for row in book])[::40]:
             results += [rounds(rule, book, sale), told(rule, book, sale), unbeaten(rule, book, sale)]
+        other = Book(book.rows[::2])
+        results += [form_of(rule, book), changes(rule, book, other), parting_sale(rule, book, other)]
+        results += [dead_rows(rule, book), least_lots(rule, book)]
+        results += [[wins_at(rule, book, at), left_at(rule, book, at)] for at in range(len(book))]
+        if is_whole(rule, book):
+            results += [entry_pairs(rule, book), list(entries(rule, book))[::50]]
+    for made in some_logs(20, 11):
+        sale = ("a", "tea", 2, 1)
+        results += [turns(Rule(["newest"]), Log(made), sale), refunds(Rule(), Log(made), [(sale, 2)])]
     for words in lists_of_words(2):
         rule = Rule(words)
         results += [shown(shaky_book(rule)), shown(unlike_choice(rule)), shown(parting(rule, Rule(["cheapest"])))]
