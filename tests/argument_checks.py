@@ -4,7 +4,9 @@ import itertools
 
 from rowsmeet.books import Book
 from rowsmeet.boxes import Box
-from rowsmeet.errors import BadBook, BadDay, BadLog, BadRule, BadSale, BadSales, NoRow, PriceError
+from rowsmeet.errors import (
+    BadBook, BadDay, BadLog, BadReceipts, BadRow, BadRule, BadSale, BadSales, BadText, NoRow, PriceError,
+)
 from rowsmeet.logs import Log
 from rowsmeet.rules import Rule
 from tests.values import BIG, nested, other_kinds, plain_kinds, row
@@ -38,9 +40,20 @@ DAY = (3, BadDay, [thing for thing in other_kinds() if thing != 10 ** 5000] + [
     None, -BIG, "3", [3], (3,), (3, None), {3: 3}, Box(), BOOK, row(), Rule(), Log(), nested(20), b"3"])
 SOLD = ([(("ann", "tea", 35, 2), 3)], BadSales, plain_kinds() + [
     None, 0, "sold", {0: (("ann", "tea", 35, 2), 3)}, Box(), BOOK, row(), Rule(), Log(), b""])
+RECEIPTS = ([(("ann", "tea", 35, 2), 8)], BadReceipts, SOLD[2])
+A_ROW = (row(7, days=(30, 36)), BadRow, other_kinds() + [
+    None, 0, "row", [row()], (row(),), (Box(), 7, 0), BOOK, Box(), Rule(), Log(), nested(20), b""])
+
+# A text that is that of a rule, of a book and of a log, and values that no reader takes.
+TEXT = ("", BadText, [thing for thing in other_kinds() if thing != ""] + [
+    None, 0, " ", "\n", "x", "A", "0", "ann tea 35", "* * 0- 0- 5 10", "newest newest", "newest\n", ["newest"], ("newest",),
+    Box(), BOOK, row(), Rule(), Log(), nested(20), b""])
+ROW_TEXT, SALE_TEXT = ("* * 0- 0- 5 0", BadText, TEXT[2]), ("ann tea 35 2", BadText, TEXT[2])
 
 # The attributes of errors that do not hang on the wrong value.
-ATTRIBUTES = {BadLog: ("at", None), BadSales: ("at", None)}
+ATTRIBUTES = {
+    BadLog: ("at", None), BadSales: ("at", None), BadReceipts: ("at", None), BadRow: ("part", "row"), BadText: ("line", 0),
+}
 
 
 class ArgumentChecks:

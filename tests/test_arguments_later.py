@@ -1,12 +1,16 @@
-"""Each function of forms, matter, entry and logs with wrong arguments, and by the names of its parameters."""
+"""Each function of the modules from forms on with wrong arguments, and by the names of its parameters."""
 
 import unittest
 
-from rowsmeet import entry, forms, logs, matter
+from rowsmeet import entry, forms, logs, matter, texts, unknown
+from rowsmeet.desk import Desk
 from rowsmeet.errors import BadRule
+from rowsmeet.house import House
 from rowsmeet.logs import Log
 from rowsmeet.rules import Rule
-from tests.argument_checks import A_BOOK, A_LOG, DAY, INDEX, NAME, RULE, SALE, SOLD, ArgumentChecks
+from tests.argument_checks import (
+    A_BOOK, A_LOG, A_ROW, DAY, INDEX, NAME, RECEIPTS, ROW_TEXT, RULE, SALE, SALE_TEXT, SOLD, TEXT, ArgumentChecks,
+)
 from tests.test_interface import PLACES
 
 # The book of the other arguments is whole by it.
@@ -28,6 +32,16 @@ def entry_at(rule, book):
     return entry.entry_at(number=1, rule=rule, book=book)
 
 
+def house(rule):
+    """A new house."""
+    return House(strict=True, rule=rule)
+
+
+def rows_at_desk(text):
+    """What a new desk answers."""
+    return Desk(strict=True, text=text).reply(line="rows")
+
+
 FUNCTIONS = [
     (forms.form_of, {"rule": RULE, "book": A_BOOK}),
     (forms.days_told, {"rule": RULE, "book": A_BOOK, "who": NAME, "what": NAME}),
@@ -47,14 +61,28 @@ FUNCTIONS = [
     (logs.told_on, {"rule": RULE, "log": A_LOG, "sale": SALE, "day": DAY}),
     (logs.turns, {"rule": RULE, "log": A_LOG, "sale": SALE}),
     (logs.refunds, {"rule": RULE, "log": A_LOG, "sold": SOLD}),
+    (unknown.prices_back, {"rule": RULE, "book": A_BOOK, "at": INDEX, "receipts": RECEIPTS}),
+    (texts.rule_text, {"rule": RULE}),
+    (texts.row_text, {"row": A_ROW}),
+    (texts.sale_text, {"sale": SALE}),
+    (texts.read_rule, {"text": TEXT}),
+    (texts.read_row, {"text": ROW_TEXT}),
+    (texts.read_sale, {"text": SALE_TEXT}),
+    (texts.book_text, {"book": A_BOOK}),
+    (texts.log_text, {"log": A_LOG}),
+    (texts.read_book, {"text": TEXT}),
+    (texts.read_log, {"text": TEXT}),
 ]
+
+# These are no functions themselves.
+MADE = [(house, {"rule": RULE}), (rows_at_desk, {"text": TEXT})]
 
 
 class Arguments(ArgumentChecks, unittest.TestCase):
-    functions = FUNCTIONS
+    functions = FUNCTIONS + MADE
 
     def test_each_function_is_here(self):
-        listed = [name for module in [forms, matter, entry, logs] for name in PLACES[module]]
+        listed = [name for module in [forms, matter, entry, logs, unknown, texts] for name in PLACES[module]]
         self.assertEqual([name for name in listed if name != "Log"], [function.__name__ for function, kinds in FUNCTIONS])
 
     def test_a_log_by_the_names_of_its_parameters(self):

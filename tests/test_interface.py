@@ -3,13 +3,16 @@
 import inspect
 import unittest
 
-from rowsmeet import asking, books, boxes, entry, errors, firmness, forms, logs, matter, orders, rules
+from rowsmeet import (
+    asking, books, boxes, desk, entry, errors, firmness, forms, house, logs, matter, orders, rules, texts, unknown,
+)
 
 PROPERTIES = {
     boxes.Box: ["who", "what", "days", "amounts"],
     books.Row: ["box", "price", "rank"],
     books.Book: ["rows"],
     rules.Rule: ["words", "live"],
+    house.House: ["rule", "strict", "book", "deeds"],
 }
 
 OPERATORS = {
@@ -18,6 +21,7 @@ OPERATORS = {
     books.Book: ["__len__", "__getitem__", "__contains__", "__iter__", "__add__", "__eq__"],
     rules.Rule: ["__eq__"],
     logs.Log: ["__len__", "__eq__"],
+    house.House: ["__iadd__", "__call__", "__eq__", "__enter__", "__exit__"],
 }
 
 SIGNATURES = {
@@ -80,6 +84,29 @@ SIGNATURES = {
     logs.told_on: "(rule, log, sale, day)",
     logs.turns: "(rule, log, sale)",
     logs.refunds: "(rule, log, sold)",
+    unknown.prices_back: "(rule, book, at, receipts)",
+    house.House: "(rule, strict=False)",
+    house.House.put: "(self, row)",
+    house.House.take: "(self, at)",
+    house.House.end: "(self, at, day)",
+    house.House.undo: "(self)",
+    house.House.__call__: "(self, sale)",
+    house.House.row_of: "(self, sale)",
+    house.House.news: "(self, sales)",
+    house.House.copy: "(self)",
+    house.House.tried: "(self, work)",
+    texts.rule_text: "(rule)",
+    texts.row_text: "(row)",
+    texts.sale_text: "(sale)",
+    texts.book_text: "(book)",
+    texts.log_text: "(log)",
+    texts.read_rule: "(text)",
+    texts.read_row: "(text)",
+    texts.read_sale: "(text)",
+    texts.read_book: "(text)",
+    texts.read_log: "(text)",
+    desk.Desk: "(text, strict=False)",
+    desk.Desk.reply: "(self, line)",
 }
 
 PLACES = {
@@ -96,6 +123,11 @@ PLACES = {
     matter: ["wins_at", "left_at", "dead_rows", "least_lots"],
     entry: ["entry_pairs", "leaves", "entries", "count_entries", "entry_at"],
     logs: ["Log", "known", "told_on", "turns", "refunds"],
+    unknown: ["prices_back"],
+    house: ["House"],
+    texts: ["rule_text", "row_text", "sale_text", "read_rule", "read_row", "read_sale", "book_text", "log_text",
+            "read_book", "read_log"],
+    desk: ["Desk"],
 }
 
 

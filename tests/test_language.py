@@ -8,8 +8,9 @@ import unittest
 
 PACKAGE = pathlib.Path(__file__).resolve().parent.parent / "rowsmeet"
 
-# The modules of the interface, in its order, as far as they are written; further ones may stand between.
-MODULES = ["errors", "boxes", "books", "rules", "asking", "firmness", "orders", "forms", "matter", "entry", "logs"]
+# The modules of the interface, in its order; further ones may stand between.
+MODULES = ["errors", "boxes", "books", "rules", "asking", "firmness", "orders", "forms", "matter", "entry", "logs",
+           "unknown", "house", "texts", "desk"]
 
 BANNED_WORDS = re.compile(
     r"\b(type|typing|typing_extensions|enum|Enum|IntEnum|StrEnum|Flag|IntFlag|Generic|Protocol|ABC|ABCMeta|namedtuple"
