@@ -1,8 +1,9 @@
-"""What is asked of a book and of a sale that is passed."""
+"""What is asked of a book, of a sale and of lists of sales that are passed."""
 
 from rowsmeet.books import Book
 from rowsmeet.boxes import is_sale
-from rowsmeet.errors import BadBook, BadSale
+from rowsmeet.errors import BadBook, BadSale, BadSales
+from rowsmeet.kinds import is_list
 
 
 def check_book(book):
@@ -23,3 +24,12 @@ def first_wrong(things, is_right):
         if not is_right(thing):
             return at
     return None
+
+
+def check_sales(sales, is_right):
+    """BadSales unless the value is a list of which each item is as it must be."""
+    if not is_list(sales):
+        raise BadSales(None)
+    wrong = first_wrong(sales, is_right)
+    if wrong is not None:
+        raise BadSales(wrong)

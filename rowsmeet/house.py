@@ -3,20 +3,10 @@
 from rowsmeet.asking import by_pairs, told
 from rowsmeet.books import Book
 from rowsmeet.boxes import is_sale
-from rowsmeet.checks import first_wrong
-from rowsmeet.errors import BadSales, NothingDone, Shaky
+from rowsmeet.checks import check_sales
+from rowsmeet.errors import NothingDone, Shaky
 from rowsmeet.firmness import shaky
-from rowsmeet.kinds import is_list
 from rowsmeet.rules import check_rule
-
-
-def check_sales(sales):
-    """BadSales unless the value is a list of sales."""
-    if not is_list(sales):
-        raise BadSales(None)
-    wrong = first_wrong(sales, is_sale)
-    if wrong is not None:
-        raise BadSales(wrong)
 
 
 class Block:
@@ -34,8 +24,9 @@ class House:
         check_rule(rule)
         self.own_rule = rule
         self.is_strict = strict
-        # Pairs (deed, book behind it). A new tuple with each deed, so that blocks and copies can hold on to one.
-        self.done = ()
+        # Pairs (deed, book behind it), the first one for the new house. Each deed makes a new tuple, so that
+        # blocks and copies can hold on to an old one.
+        self.done = ((None, Book()),)
         self.block = None
 
     @property
@@ -51,12 +42,12 @@ class House:
     @property
     def book(self):
         """The book behind all deeds that stand."""
-        return self.done[-1][1] if len(self.done) > 0 else Book()
+        return self.done[-1][1]
 
     @property
     def deeds(self):
         """The list of the deeds that stand."""
-        return [deed for deed, book_behind in self.done]
+        return [deed for deed, book_behind in self.done[1:]]
 
     def __eq__(self, other):
         if not isinstance(other, House):
@@ -100,7 +91,7 @@ class House:
 
     def undo(self):
         """The last deed that stands is taken back."""
-        if not self.done:
+        if len(self.done) == 1:
             raise NothingDone("no deed stands")
         self.done = self.done[:-1]
 
@@ -110,7 +101,7 @@ class House:
 
     def news(self, sales):
         """The ascending list of the indexes of the sales of which the last deed that stands changed what is told."""
-        check_sales(sales)
+        check_sales(sales, is_sale)
         before = self.copy()
         before.undo()
         rule, old, new = self.rule, before.book, self.book

@@ -3,8 +3,8 @@
 from rowsmeet.asking import told
 from rowsmeet.books import MOST_ROWS, Book, Row
 from rowsmeet.boxes import is_sale
-from rowsmeet.checks import check_sale, first_wrong
-from rowsmeet.errors import BadDay, BadLog, BadSales, TooMany
+from rowsmeet.checks import check_sale, check_sales
+from rowsmeet.errors import BadDay, BadLog, TooMany
 from rowsmeet.kinds import is_count, is_index, is_list
 from rowsmeet.rules import check_rule
 
@@ -120,9 +120,6 @@ def told_on(rule, log, sale, day):
 
 def turns(rule, log, sale):
     """The list of pairs (day, told): the day 0, and the days of knowledge at which something else comes to be told."""
-    check_rule(rule)
-    check_log(log)
-    check_sale(sale)
     found = [(0, told_on(rule, log, sale, 0))]
     for day, deed in log.entries:
         now = told_on(rule, log, sale, day)
@@ -138,11 +135,7 @@ def is_sold(thing):
 
 def check_sold(sold):
     """BadSales unless the value is a list of pairs of a sale and a day, TooMany if there are too many."""
-    if not is_list(sold):
-        raise BadSales(None)
-    wrong = first_wrong(sold, is_sold)
-    if wrong is not None:
-        raise BadSales(wrong)
+    check_sales(sold, is_sold)
     if len(sold) > MOST_SOLD:
         raise TooMany(MOST_SOLD)
 

@@ -26,7 +26,7 @@ def left_at(rule, book, at):
     check_book(book)
     check_at(book, at)
     for lot, sale in cells(book):
-        if at in lot and at in by_rounds(rule, book, sale):
+        if at in by_rounds(rule, book, sale):
             return sale
     return None
 

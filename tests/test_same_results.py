@@ -8,6 +8,7 @@ import unittest
 
 from rowsmeet.asking import rounds, told, unbeaten
 from rowsmeet.books import Book
+from rowsmeet.desk import Desk
 from rowsmeet.entry import entries, entry_pairs
 from rowsmeet.firmness import is_whole, least_taken, shaky, unwhole_sale
 from rowsmeet.forms import changes, form_of, parting_sale
@@ -15,6 +16,8 @@ from rowsmeet.logs import Log, refunds, turns
 from rowsmeet.matter import dead_rows, least_lots, left_at, wins_at
 from rowsmeet.orders import firm_orders, parting, shaky_book, unlike_choice
 from rowsmeet.rules import Rule
+from rowsmeet.texts import row_text
+from rowsmeet.unknown import prices_back
 from tests.plain import WORDS, end_sales, lists_of_words, some_cases
 from tests.plain_logs import some_logs
 
@@ -43,6 +46,10 @@ def all_results():
         results += [[wins_at(rule, book, at), left_at(rule, book, at)] for at in range(len(book))]
         if is_whole(rule, book):
             results += [entry_pairs(rule, book), list(entries(rule, book))[::50]]
+        desk = Desk(" ".join(words))
+        results += [desk.reply("put " + row_text(row)) for row in book]
+        results += [desk.reply(line) for line in ["firm", "spare", "rows", "ask a tea 2 1", "rounds a tea 2 1"]]
+        results += [prices_back(rule, book, at, [(("a", "tea", 2, 1), 5)]) for at in range(len(book))]
     for made in some_logs(20, 11):
         sale = ("a", "tea", 2, 1)
         results += [turns(Rule(["newest"]), Log(made), sale), refunds(Rule(), Log(made), [(sale, 2)])]
